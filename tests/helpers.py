@@ -1,8 +1,31 @@
-"""What several test files need: small rows of tests, and tests of a given size or depth."""
+"""What several test files need: tests of a given size, kinds of a given size, and a plain lane to compare with."""
 
+import unittest
 from itertools import product
 
+from lanescribe.errors import BadTime, Busy, NoTicket, NotTop
+from lanescribe.kinds import LIMIT, Kind
+
 ALL = ("all",)
+
+NO_TESTS = (
+    (), ("",), ("some",), ("some", "a"), ("some", "a", 5), ("some", ALL), ("some", ALL, ALL), ("LESS", "a", 5),
+    ("<", "a", 5), ("is", "a", 5), ("not", "a", 5), ("and", "a", 5), ("or", "a", 5), ("not", "a"), ("all", "a", 5),
+    ("less", ALL, ALL), ("is", ALL, ALL), ("less ", "a", 5), ("Not", ALL), ("xor", ALL, ALL),
+    ("All",), ("all ",), ("all", "all"), ("all", 1), ("all", ()), ("all", ALL),
+    ("is",), ("is", 5), ("is", ""), ("is", "A"), ("is", "abcdefghi"), ("is", "a", "b"), ("is", ALL), ("is", ()),
+    ("less",), ("less", "a"), ("less", 5), ("less", "a", "b"), ("less", 5, "a"), ("less", "a", 5, 5),
+    ("less", "a", ALL), ("less", ALL, 5), ("less", "", 5), ("less", "a b", 5), ("less", "abcdefghi", 5),
+    ("less", "a", LIMIT + 1), ("less", "a", -LIMIT - 1), ("less", "a", 10 ** 29), ("less", "a", "5"),
+    ("less", "a", ()), ("less", 1, 2),
+    ("same",), ("same", "a"), ("same", "a", LIMIT + 1), ("same", "a", -LIMIT - 1), ("same", "a", -10 ** 29),
+    ("same", "a1", 0), ("same", "a", 1, 2), ("same", "a", "1"),
+    ("not",), ("not", ()), ("not", "all"), ("not", 5), ("not", ALL, ALL), ("not", ("some",)), ("not", ("is", "A")),
+    ("and",), ("and", ALL), ("and", ALL, ALL, ALL), ("and", ALL, ()), ("and", (), ALL), ("and", "all", ALL),
+    ("and", ALL, 5), ("and", ("some",), ALL), ("and", ALL, ("less", "a", LIMIT + 1)),
+    ("or",), ("or", ALL), ("or", ALL, ALL, ALL), ("or", (), ALL), ("or", ALL, "all"), ("or", 5, ALL),
+    ("or", ALL, ("some",)), ("and",) + (ALL,) * 399, ("not", ("not", ("not", ("not", ())))),
+)
 
 
 def nots(depth):
@@ -38,3 +61,203 @@ def tests_upto(leaves, depth):
 def all_values(kind):
     """All values of a kind, rising."""
     return product(*[range(low, high + 1) for name, low, high in kind.fields])
+
+
+# The kind KINDS[n] takes n + 1 cells.
+KINDS = tuple(Kind("abcde"[many], tuple((name, 0, 9) for name in "wxyz"[:many])) for many in range(5))
+
+
+def write(lane, kind, time=0, values=None):
+    """Claim, fill and give in an event; its ticket, or None where it is missed."""
+    ticket = lane.claim(kind, time)
+    if ticket is not None:
+        if values is not None:
+            lane.fill(ticket, values)
+        lane.give(ticket)
+    return ticket
+
+
+def shown(lane):
+    """All that can be asked of a lane without changing it."""
+    tickets = lane.pending()
+    return (
+        lane.look(), tickets, [lane.event(ticket) for ticket in tickets], lane.counts(), lane.pages_now(), len(lane),
+        repr(lane),
+    )
+
+
+def all_taken(lane):
+    """What is taken until there is none."""
+    told = []
+    thing = lane.take()
+    while thing is not None:
+        told.append(thing)
+        thing = lane.take()
+    return told
+
+
+def places(told):
+    """What was told, the events by their places alone."""
+    return [thing if thing[0] == "lost" else thing[1] for thing in told]
+
+
+class Case(unittest.TestCase):
+    def refused(self, error, lane, deed, *handed):
+        """A deed is refused by this error and leaves the lane as it was."""
+        ahead = shown(lane)
+        with self.assertRaises(error) as caught:
+            getattr(lane, deed)(*handed)
+        self.assertIs(type(caught.exception), error)
+        self.assertEqual(shown(lane), ahead)
+        return caught.exception
+
+
+class PlainLane:
+    """A lane that forgets nothing: each claim that was ever made, with its page, and what became of it."""
+
+    def __init__(self, pages, room, over):
+        self.pages, self.room, self.over = pages, room, over
+        self.claims = []
+        self.row = [0]
+        self.cells = {0: 0}
+        self.held = None
+        self.told = set()
+        self.lost = 0
+
+    def those(self, *states):
+        return [claim for claim in self.claims if claim["state"] in states]
+
+    def claim(self, kind, time):
+        if any(time < claim["time"] for claim in self.claims):
+            raise BadTime()
+        claim = {"ticket": len(self.claims) + 1, "time": time, "kind": kind, "values": kind.lowest(), "page": None}
+        claim["state"] = "open" if self.find_room(kind.cells()) else "missed"
+        self.claims.append(claim)
+        if claim["state"] == "missed":
+            return None
+        claim["page"] = self.row[-1]
+        self.cells[self.row[-1]] += kind.cells()
+        return claim["ticket"]
+
+    def loose(self):
+        return [page for page in self.row if page != self.held]
+
+    def lose(self, page):
+        self.row.remove(page)
+        self.lost += len([claim for claim in self.those("given") if claim["page"] == page])
+
+    def is_busy(self, page):
+        return any(claim["page"] == page for claim in self.those("open"))
+
+    def find_room(self, cells):
+        if self.cells[self.row[-1]] + cells > self.room:
+            loose = self.loose()
+            if len(loose) + 1 > self.pages:
+                if not self.over or self.is_busy(loose[0]):
+                    return False
+                self.lose(loose[0])
+            self.row.append(max(self.cells) + 1)
+            self.cells[self.row[-1]] = 0
+        return True
+
+    def asked(self, ticket):
+        for claim in self.those("open"):
+            if claim["ticket"] == ticket:
+                return claim
+        raise NoTicket()
+
+    def top(self, ticket):
+        claim = self.asked(ticket)
+        if claim is not self.those("open")[-1]:
+            raise NotTop()
+        return claim
+
+    def fill(self, ticket, values):
+        claim = self.asked(ticket)
+        claim["kind"].need(values)
+        claim["values"] = values
+
+    def give(self, ticket):
+        self.top(ticket)["state"] = "given"
+
+    def throw(self, ticket):
+        claim = self.top(ticket)
+        claim["state"] = "stays"
+        behind = [other for other in self.those("given", "open", "stays") if other["ticket"] > ticket]
+        if claim["page"] == self.row[-1] and all(other["page"] != claim["page"] for other in behind):
+            claim["state"] = "freed"
+            self.cells[claim["page"]] -= claim["kind"].cells()
+
+    def plain_row(self):
+        """Each event that was given in, as it would be told, with whether it is whole, its ticket and its page."""
+        rows = []
+        for place, claim in enumerate(self.those("given")):
+            whole = all(other["ticket"] > claim["ticket"] for other in self.those("open"))
+            told = ("event", place, claim["time"], claim["kind"].name, claim["values"])
+            rows.append((told, whole, claim["ticket"], claim["page"]))
+        return rows
+
+    def take(self):
+        ahead = []
+        for told, whole, ticket, page in self.plain_row():
+            if ticket in self.told:
+                continue
+            if page not in self.row:
+                ahead.append(ticket)
+            elif not whole:
+                return None
+            elif ahead:
+                self.told.update(ahead)
+                return ("lost", len(ahead))
+            else:
+                self.told.add(ticket)
+                self.row = [other for other in self.row if other >= page]
+                self.held = page
+                return told
+        return None
+
+    def look(self):
+        return self.untold(self.told)
+
+    def untold(self, told):
+        """What a reader would be told that was told of these tickets."""
+        found, ahead = [], 0
+        for event, whole, ticket, page in self.plain_row():
+            if ticket not in told:
+                if page not in self.row:
+                    ahead += 1
+                elif whole:
+                    found += ([("lost", ahead)] if ahead else []) + [event]
+                    ahead = 0
+        return found
+
+    def seen_from(self, place):
+        """What a looker at a place would be told."""
+        return self.untold({ticket for told, whole, ticket, page in self.plain_row() if told[1] < place})
+
+    def resize(self, pages):
+        going = self.loose()[:max(0, len(self.loose()) - pages)]
+        if any(self.is_busy(page) for page in going):
+            raise Busy()
+        for page in going:
+            self.lose(page)
+        self.pages = pages
+
+    def pending(self):
+        return [claim["ticket"] for claim in self.those("open")]
+
+    def event(self, ticket):
+        claim = self.asked(ticket)
+        return (claim["time"], claim["kind"].name, claim["values"])
+
+    def counts(self):
+        return (len(self.those("given")), len(self.those("stays", "freed")), self.lost, len(self.those("missed")))
+
+    def pages_now(self):
+        return [self.cells[page] for page in self.row]
+
+    def __len__(self):
+        return len([thing for thing in self.look() if thing[0] == "event"])
+
+    def __repr__(self):
+        return f"Lane({len(self.row)} pages, {len(self)} whole)"

@@ -24,6 +24,13 @@ WORDS_NOWHERE = re.compile(
     r"\b(type|typing|typing_extensions|enum|Enum|IntEnum|StrEnum|Flag|IntFlag|Generic|Protocol|ABC|ABCMeta|namedtuple"
     r"|NamedTuple|TypedDict|TYPE_CHECKING|abstractmethod)\b|dataclass|overload|contextmanager"
 )
+# Values of objects may not bear these names, nor those of methods of Python's own but for VALUES_TOO.
+INTERFACE_METHODS = (
+    "lowest cells place_of need claim fill give throw take look pending event resize counts pages_now twin more place "
+    "back note table dropped kind lane tick tally halt write sieve stop go do undo redo whole kinds lanes now test_of "
+    "tallies stopped halted_by looker order done say"
+).split()
+VALUES_TOO = "count index title find get join lower upper split strip copy add".split()
 TWO_UNDERSCORES = ("__init__", "__eq__", "__repr__", "__str__", "__len__")
 NODES_NOWHERE = (
     ast.With, ast.Match, ast.Global, ast.Nonlocal, ast.Yield, ast.YieldFrom, ast.AsyncFunctionDef, ast.GeneratorExp,
@@ -146,6 +153,49 @@ class Rows(unittest.TestCase):
         own |= {node.attr for place, node in nodes(ast.Attribute) if isinstance(node.ctx, ast.Store)}
         for place, node in nodes(ast.Attribute):
             self.assertIn(node.attr, own, place)
+
+    def test_classes_hold_methods_alone(self):
+        for place, node in nodes(ast.ClassDef):
+            for number, row in enumerate(node.body):
+                words = isinstance(row, ast.Expr) and isinstance(row.value, ast.Constant) and number == 0
+                self.assertTrue(words or isinstance(row, ast.FunctionDef), place)
+            names = [row.name for row in node.body if isinstance(row, ast.FunctionDef)]
+            self.assertEqual(len(names), len(set(names)), place)
+
+    def test_no_name_is_a_method_and_a_value(self):
+        methods = {row.name for place, node in nodes(ast.ClassDef) for row in node.body if hasattr(row, "name")}
+        values = {node.attr for place, node in nodes(ast.Attribute) if isinstance(node.ctx, ast.Store)}
+        self.assertEqual(values & (methods | set(INTERFACE_METHODS)), set())
+        own = {name for thing in ("", 0, [], {}, set(), b"", ()) for name in dir(thing)}
+        self.assertEqual(values & own - set(VALUES_TOO), set())
+        self.assertEqual(methods & own - set(METHODS) - set(TWO_UNDERSCORES), set())
+
+    def test_values_are_given_through_a_local_name(self):
+        for place, node in nodes(ast.Attribute):
+            if isinstance(node.ctx, (ast.Store, ast.Del)):
+                self.assertIsInstance(node.value, (ast.Name, ast.Attribute), place)
+                self.assertIsInstance(node.ctx, ast.Store, place)
+
+    def test_locals_are_not_called_like_classes_and_imports(self):
+        for path in files():
+            tree = tree_of(path)
+            drawn = {name.name for row in tree.body if isinstance(row, ast.ImportFrom) for name in row.names}
+            tops_here = drawn | {row.name for row in tree.body if isinstance(row, ast.ClassDef)}
+            for node in ast.walk(tree):
+                if isinstance(node, ast.arg):
+                    self.assertNotIn(node.arg, tops_here, path.name)
+                elif isinstance(node, ast.Name) and not isinstance(node.ctx, ast.Load):
+                    self.assertNotIn(node.id, tops_here, path.name)
+
+    def test_what_a_length_and_a_text_give_back(self):
+        allowed = {"__len__": ("len",), "__str__": ("str", "repr"), "__repr__": ("str", "repr")}
+        for place, node in nodes(ast.FunctionDef):
+            if node.name in allowed:
+                for row in ast.walk(node):
+                    if isinstance(row, ast.Return) and isinstance(row.value, ast.Call):
+                        self.assertIn(getattr(row.value.func, "id", None), allowed[node.name], place)
+                    elif isinstance(row, ast.Return):
+                        self.assertIsInstance(row.value, (ast.Constant, ast.JoinedStr), place)
 
     def test_is_stands_beside_none_true_and_false(self):
         for place, node in nodes(ast.Compare):

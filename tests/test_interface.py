@@ -3,7 +3,7 @@
 import inspect
 import unittest
 
-from lanescribe import kinds, sieve
+from lanescribe import kinds, lanes, lookers, sieve, tallies, ways
 
 
 def arguments(thing):
@@ -27,6 +27,41 @@ class Interface(unittest.TestCase):
         self.assertEqual(arguments(sieve.read_test), "(text)")
         self.assertEqual(arguments(sieve.holds), "(test, kind, values)")
         self.assertEqual(arguments(sieve.parted), "(one, other, kind)")
+
+    def test_ways(self):
+        self.assertEqual(arguments(ways.is_way), "(way)")
+        self.assertEqual(arguments(ways.made), "(test)")
+        self.assertEqual(arguments(ways.run), "(way, kind, values)")
+        self.assertEqual(arguments(ways.steps), "(way, kind, values)")
+        self.assertEqual(arguments(ways.shorter), "(way)")
+
+    def test_lanes(self):
+        self.assertEqual((lanes.PAGES, lanes.ROOM), (4, 8))
+        self.assertEqual(arguments(lanes.Lane), "(*, pages=4, room=8, over=True)")
+        lane = lanes.Lane()
+        self.assertEqual(arguments(lane.claim), "(kind, time)")
+        self.assertEqual(arguments(lane.fill), "(ticket, values)")
+        self.assertEqual(arguments(lane.resize), "(pages)")
+        for method in (lane.give, lane.throw, lane.event):
+            self.assertEqual(arguments(method), "(ticket)")
+        for method in (lane.take, lane.look, lane.pending, lane.counts, lane.pages_now, lane.twin):
+            self.assertEqual(arguments(method), "()")
+
+    def test_lookers(self):
+        self.assertEqual(lookers.MOST_TOLD, 400)
+        self.assertEqual(arguments(lookers.Looker), "(lane)")
+        looker = lookers.Looker(lanes.Lane())
+        self.assertEqual(arguments(looker.more), "(*, most=400)")
+        self.assertEqual(arguments(looker.place), "()")
+        self.assertEqual(arguments(looker.back), "(place=0)")
+
+    def test_tallies(self):
+        self.assertEqual(tallies.MOST_KEYS, 16)
+        self.assertEqual(arguments(tallies.Tally), "(test, keys, *, most=16)")
+        tally = tallies.Tally(("all",), ())
+        self.assertEqual(arguments(tally.note), "(kind, values)")
+        for method in (tally.table, tally.dropped, tally.twin):
+            self.assertEqual(arguments(method), "()")
 
 
 if __name__ == "__main__":

@@ -6,32 +6,13 @@ from lanescribe.errors import BadTest, BadValue
 from lanescribe.kinds import LIMIT, Kind
 from lanescribe.sieve import holds, is_test, leaves, parted, read_test, test_text
 
-from tests.helpers import ALL, all_values, bushy, nots, tests_upto
+from tests.helpers import ALL, NO_TESTS, all_values, bushy, nots, tests_upto
 
 WORDS = ("all", "is", "less", "same", "not", "and", "or")
 SEND = Kind("send", (("size", 0, 9), ("to", 1, 4)))
 IDLE = Kind("idle")
 SMALL = ("less", "size", 5)
 HERE = ("same", "to", 2)
-
-NO_TESTS = (
-    (), ("",), ("some",), ("some", "a"), ("some", "a", 5), ("some", ALL), ("some", ALL, ALL), ("LESS", "a", 5),
-    ("<", "a", 5), ("is", "a", 5), ("not", "a", 5), ("and", "a", 5), ("or", "a", 5), ("not", "a"), ("all", "a", 5),
-    ("less", ALL, ALL), ("is", ALL, ALL), ("less ", "a", 5), ("Not", ALL), ("xor", ALL, ALL),
-    ("All",), ("all ",), ("all", "all"), ("all", 1), ("all", ()), ("all", ALL),
-    ("is",), ("is", 5), ("is", ""), ("is", "A"), ("is", "abcdefghi"), ("is", "a", "b"), ("is", ALL), ("is", ()),
-    ("less",), ("less", "a"), ("less", 5), ("less", "a", "b"), ("less", 5, "a"), ("less", "a", 5, 5),
-    ("less", "a", ALL), ("less", ALL, 5), ("less", "", 5), ("less", "a b", 5), ("less", "abcdefghi", 5),
-    ("less", "a", LIMIT + 1), ("less", "a", -LIMIT - 1), ("less", "a", 10 ** 29), ("less", "a", "5"),
-    ("less", "a", ()), ("less", 1, 2),
-    ("same",), ("same", "a"), ("same", "a", LIMIT + 1), ("same", "a", -LIMIT - 1), ("same", "a", -10 ** 29),
-    ("same", "a1", 0), ("same", "a", 1, 2), ("same", "a", "1"),
-    ("not",), ("not", ()), ("not", "all"), ("not", 5), ("not", ALL, ALL), ("not", ("some",)), ("not", ("is", "A")),
-    ("and",), ("and", ALL), ("and", ALL, ALL, ALL), ("and", ALL, ()), ("and", (), ALL), ("and", "all", ALL),
-    ("and", ALL, 5), ("and", ("some",), ALL), ("and", ALL, ("less", "a", LIMIT + 1)),
-    ("or",), ("or", ALL), ("or", ALL, ALL, ALL), ("or", (), ALL), ("or", ALL, "all"), ("or", 5, ALL),
-    ("or", ALL, ("some",)), ("and",) + (ALL,) * 399, ("not", ("not", ("not", ("not", ())))),
-)
 
 
 class IsTest(unittest.TestCase):
