@@ -261,3 +261,17 @@ class PlainLane:
 
     def __repr__(self):
         return f"Lane({len(self.row)} pages, {len(self)} whole)"
+
+
+class RingCase(unittest.TestCase):
+    def check_ring(self, found, lanes, ties, most):
+        """A list is a ring of these ties and of bounds, which no amounts meet."""
+        self.assertIsInstance(found, list)
+        bounds = [(lane, -1, 0) for lane in range(lanes)] + [(-1, lane, 0 - most) for lane in range(lanes)]
+        for at, tie in enumerate(found):
+            self.assertIn(tie, ties + bounds)
+            # The one ahead of the first is the last one.
+            self.assertEqual(found[at - 1][1], tie[0], found)
+        ones = [one for one, other, least in found]
+        self.assertEqual(len(ones), len(set(ones)), found)
+        self.assertGreater(sum(least for one, other, least in found), 0, found)

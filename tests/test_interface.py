@@ -3,7 +3,7 @@
 import inspect
 import unittest
 
-from lanescribe import kinds, lanes, lookers, sieve, tallies, ways
+from lanescribe import clocks, kinds, lanes, lookers, merge, sieve, spans, tallies, ways
 
 
 def arguments(thing):
@@ -62,6 +62,21 @@ class Interface(unittest.TestCase):
         self.assertEqual(arguments(tally.note), "(kind, values)")
         for method in (tally.table, tally.dropped, tally.twin):
             self.assertEqual(arguments(method), "()")
+
+    def test_clocks(self):
+        self.assertEqual(clocks.MOST_AMOUNT, 99999)
+        self.assertEqual(arguments(clocks.amounts), "(lanes, ties, *, most=99999)")
+        self.assertEqual(arguments(clocks.ring), "(lanes, ties, *, most=99999)")
+        self.assertEqual(arguments(clocks.meets), "(lanes, ties, row, *, most=99999)")
+
+    def test_merge(self):
+        self.assertEqual(arguments(merge.ties_of), "(causes)")
+        self.assertEqual(arguments(merge.merged), "(rows, row)")
+        self.assertEqual(arguments(merge.ordered), "(rows, causes, *, most=99999)")
+
+    def test_spans(self):
+        for ask in (spans.spans, spans.strays, spans.deepest):
+            self.assertEqual(arguments(ask), "(told, pairs)")
 
 
 if __name__ == "__main__":
