@@ -1,10 +1,12 @@
-"""What several test files need: tests of a given size, kinds of a given size, and a plain lane to compare with."""
+"""What several test files need: tests and kinds of a given size, and plain lanes and recorders to compare with."""
 
 import unittest
 from itertools import product
 
-from lanescribe.errors import BadTime, Busy, NoTicket, NotTop
+from lanescribe.errors import BadSize, BadTime, Broken, Busy, Missing, NoTicket, NotTop, ScribeError
 from lanescribe.kinds import LIMIT, Kind
+from lanescribe.recorder import Recorder
+from lanescribe.sieve import holds, is_test
 
 ALL = ("all",)
 
@@ -236,6 +238,8 @@ class PlainLane:
         return self.untold({ticket for told, whole, ticket, page in self.plain_row() if told[1] < place})
 
     def resize(self, pages):
+        if not 2 <= pages <= 16:
+            raise BadSize()
         going = self.loose()[:max(0, len(self.loose()) - pages)]
         if any(self.is_busy(page) for page in going):
             raise Busy()
@@ -275,3 +279,224 @@ class RingCase(unittest.TestCase):
         ones = [one for one, other, least in found]
         self.assertEqual(len(ones), len(set(ones)), found)
         self.assertGreater(sum(least for one, other, least in found), 0, found)
+
+
+SEND = ("send", (("size", 0, 9), ("to", 1, 4)))
+# Two kinds, of three cells and of one, a lane that writes over and one that misses.
+BASE = (("kind",) + SEND, ("kind", "idle", ()), ("lane", "a", True), ("lane", "b", False))
+
+
+def recorder_of(*deeds, pages=2, room=5):
+    """A recorder that did BASE and then these deeds."""
+    recorder = Recorder(pages=pages, room=room)
+    for deed in BASE + deeds:
+        recorder.do(deed)
+    return recorder
+
+
+def call(recorder, deed):
+    """Do a deed by its method; what stands behind the star is handed in by its name."""
+    word, *handed = deed
+    named = {"lane": "over", "tally": "keys"}.get(word)
+    method = getattr(recorder, word)
+    return method(*handed[:-1], **{named: handed[-1]}) if named else method(*handed)
+
+
+def shown_recorder(recorder):
+    """All that can be asked of a recorder without changing it."""
+    lanes, tallies = recorder.lanes(), recorder.tallies()
+    return (
+        [(kind.name, kind.fields) for kind in recorder.kinds()], lanes, tallies,
+        [(recorder.now(lane), recorder.test_of(lane), recorder.look(lane)) for lane in lanes],
+        [(recorder.pending(lane), recorder.counts(lane), recorder.looker(lane).more()) for lane in lanes],
+        [(recorder.table(name), recorder.dropped(name)) for name in tallies],
+        recorder.stopped(), recorder.halted_by(), recorder.done(), len(recorder),
+    )
+
+
+def word_of(act):
+    """What is told, or the word of the refusal."""
+    try:
+        return ("told", act())
+    except (ScribeError, Missing, PlainRefusal) as error:
+        return ("refused", error.word, getattr(error, "step", None), getattr(error, "why", None))
+
+
+class PlainState:
+    """How a plain recorder stands: plain lanes, and all events that were given in since each tally was made."""
+
+    def __init__(self, pages, room):
+        self.size = (pages, room)
+        self.kinds, self.lanes, self.clocks, self.tests, self.tallies = {}, {}, {}, {}, {}
+        self.stopped, self.halt = False, None
+
+    def need(self, met, word):
+        if not met:
+            raise PlainRefusal(word)
+
+    def need_free(self, name, borne):
+        self.need(is_plain_name(name), "badname")
+        self.need(name not in borne, "taken")
+
+    def top(self, lane):
+        self.need(lane in self.lanes, "nolane")
+        self.need(self.lanes[lane].pending(), "noticket")
+        return self.lanes[lane].pending()[-1]
+
+    def kind(self, name, fields):
+        self.need_free(name, self.kinds)
+        self.need(len(self.kinds) < 8, "full")
+        self.kinds[name] = Kind(name, fields)
+
+    def lane(self, name, over):
+        self.need_free(name, self.lanes)
+        self.need(len(self.lanes) < 6, "full")
+        self.lanes[name], self.clocks[name], self.tests[name] = PlainLane(*self.size, over), 0, ALL
+
+    def tick(self, lane, steps):
+        self.need(lane in self.lanes, "nolane")
+        self.need(0 <= steps <= LIMIT, "badtime")
+        self.clocks[lane] += steps
+
+    def claim(self, lane, kind):
+        self.need(lane in self.lanes, "nolane")
+        self.need(kind in self.kinds, "nokind")
+        self.need(not self.stopped, "stopped")
+        return self.lanes[lane].claim(self.kinds[kind], self.clocks[lane])
+
+    def fill(self, lane, values):
+        ticket = self.top(lane)
+        self.lanes[lane].fill(ticket, values)
+
+    def give(self, lane):
+        ticket = self.top(lane)
+        time, name, values = self.lanes[lane].event(ticket)
+        if not holds(self.tests[lane], self.kinds[name], values):
+            self.lanes[lane].throw(ticket)
+            return False
+        self.lanes[lane].give(ticket)
+        for test, keys, noted in self.tallies.values():
+            noted.append((self.kinds[name], values))
+        self.stopped = self.stopped or self.halt is not None and holds(self.halt, self.kinds[name], values)
+        return True
+
+    def throw(self, lane):
+        ticket = self.top(lane)
+        self.lanes[lane].throw(ticket)
+
+    def write(self, lane, kind, values):
+        if self.claim(lane, kind) is None:
+            return None
+        self.fill(lane, values)
+        return self.give(lane)
+
+    def take(self, lane):
+        self.need(lane in self.lanes, "nolane")
+        return self.lanes[lane].take()
+
+    def resize(self, lane, pages):
+        self.need(lane in self.lanes, "nolane")
+        self.lanes[lane].resize(pages)
+
+    def sieve(self, lane, test):
+        self.need(lane in self.lanes, "nolane")
+        self.need(is_test(test), "badtest")
+        self.tests[lane] = test
+
+    def tally(self, name, test, keys):
+        self.need_free(name, self.tallies)
+        self.need(is_test(test), "badtest")
+        self.need(len(set(keys)) == len(keys) < 5 and all(is_plain_name(key) for key in keys), "badkeys")
+        self.need(len(self.tallies) < 4, "full")
+        self.tallies[name] = (test, keys, [])
+
+    def set_halt(self, test):
+        self.need(test is None or is_test(test), "badtest")
+        self.halt = test
+
+    def stop(self):
+        self.stopped = True
+
+    def go(self):
+        self.stopped = False
+
+    def do(self, deed):
+        word, *handed = deed
+        if word == "whole":
+            told = []
+            for step, inner in enumerate(handed[0]):
+                try:
+                    told.append(self.do(inner))
+                except (ScribeError, Missing, PlainRefusal) as error:
+                    raise Broken(step, error.word)
+            return told
+        return (self.set_halt if word == "halt" else getattr(self, word))(*handed)
+
+    def table(self, name):
+        """The counts of a tally, and how many events it dropped."""
+        test, keys, noted = self.tallies[name]
+        found, dropped = {}, 0
+        for kind, values in noted:
+            fields = [field for field, low, high in kind.fields]
+            if holds(test, kind, values) and all(key in fields for key in keys):
+                key = tuple(values[fields.index(key)] for key in keys)
+                if key in found or len(found) < 16:
+                    found[key] = found.get(key, 0) + 1
+                else:
+                    dropped += 1
+        return sorted(found.items()), dropped
+
+
+class PlainRefusal(Exception):
+    def __init__(self, word):
+        super().__init__(word)
+        self.word = word
+
+
+def is_plain_name(name):
+    return 1 <= len(name) <= 8 and all(letter in "abcdefghijklmnopqrstuvwxyz" for letter in name)
+
+
+class PlainRecorder:
+    """A recorder that keeps the deeds that stand, and does all of them anew whenever it is asked."""
+
+    def __init__(self, pages, room):
+        self.size = (pages, room)
+        self.deeds, self.undone = [], []
+
+    def state(self):
+        state = PlainState(*self.size)
+        for deed in self.deeds:
+            state.do(deed)
+        return state
+
+    def do(self, deed):
+        told = self.state().do(deed)
+        self.deeds.append(deed)
+        self.undone.clear()
+        return told
+
+    def undo(self):
+        return self.go_over(self.deeds, self.undone)
+
+    def redo(self):
+        return self.go_over(self.undone, self.deeds)
+
+    def go_over(self, source, goal):
+        if not source:
+            raise PlainRefusal("nothingleft")
+        goal.append(source.pop())
+        return goal[-1]
+
+    def shown(self):
+        """As shown_recorder tells of a recorder."""
+        state = self.state()
+        lanes, tallies = list(state.lanes), sorted(state.tallies)
+        rows = [(name, state.lanes[name]) for name in lanes]
+        return (
+            [(name, state.kinds[name].fields) for name in sorted(state.kinds)], lanes, tallies,
+            [(state.clocks[name], state.tests[name], lane.look()) for name, lane in rows],
+            [(lane.pending(), lane.counts(), lane.seen_from(0)) for name, lane in rows],
+            [state.table(name) for name in tallies],
+            state.stopped, state.halt, list(self.deeds), sum(len(lane) for name, lane in rows),
+        )

@@ -18,7 +18,8 @@ BUILT_IN = (
 METHODS = (
     "append clear copy count endswith extend find get index insert isalnum isalpha isdigit islower isspace isupper "
     "items join keys ljust lower lstrip partition pop remove replace reverse rfind rjust rpartition rsplit rstrip "
-    "setdefault split splitlines startswith strip update upper values zfill bit_length isascii sort add discard"
+    "setdefault split splitlines startswith strip update upper values zfill bit_length isascii removeprefix sort add "
+    "discard"
 ).split()
 WORDS_NOWHERE = re.compile(
     r"\b(type|typing|typing_extensions|enum|Enum|IntEnum|StrEnum|Flag|IntFlag|Generic|Protocol|ABC|ABCMeta|namedtuple"
@@ -35,6 +36,11 @@ TWO_UNDERSCORES = ("__init__", "__eq__", "__repr__", "__str__", "__len__")
 NODES_NOWHERE = (
     ast.With, ast.Match, ast.Global, ast.Nonlocal, ast.Yield, ast.YieldFrom, ast.AsyncFunctionDef, ast.GeneratorExp,
     ast.NamedExpr, ast.Div, ast.MatMult, ast.Import,
+)
+
+STATEMENTS = (
+    ast.Assign, ast.AugAssign, ast.If, ast.While, ast.For, ast.Return, ast.Break, ast.Continue, ast.Pass, ast.Raise,
+    ast.Try, ast.Expr, ast.Assert, ast.Delete, ast.FunctionDef, ast.ClassDef, ast.ImportFrom,
 )
 
 
@@ -123,6 +129,36 @@ class Imports(unittest.TestCase):
 class Rows(unittest.TestCase):
     def test_nodes_that_stand_nowhere(self):
         self.assertEqual([place for place, node in nodes(*NODES_NOWHERE)], [])
+
+    def test_statements(self):
+        for place, node in nodes(ast.stmt):
+            self.assertIsInstance(node, STATEMENTS, place)
+            if isinstance(node, (ast.For, ast.While)):
+                self.assertEqual(node.orelse, [], place)
+            if isinstance(node, ast.Expr):
+                words = isinstance(node.value, ast.Constant) and isinstance(node.value.value, str)
+                self.assertTrue(words or isinstance(node.value, ast.Call), place)
+
+    def test_errors_are_made_on_the_spot_and_taken_by_name(self):
+        own = {node.name for place, node in nodes(ast.ClassDef) if node.bases}
+        for place, node in nodes(ast.Raise):
+            self.assertIsInstance(node.exc, ast.Call, place)
+            self.assertIn(getattr(node.exc.func, "id", None), own, place)
+        for place, node in nodes(ast.ExceptHandler):
+            for name in getattr(node.type, "elts", [node.type]):
+                self.assertIn(getattr(name, "id", None), own, place)
+
+    def test_a_top_holds_plain_values_and_own_defs(self):
+        for path in files():
+            for row in tree_of(path).body:
+                if isinstance(row, ast.Assign):
+                    for node in ast.walk(row.value):
+                        self.assertNotIsInstance(node, (ast.Call, ast.Lambda, ast.Set, ast.ListComp), path.name)
+                        if isinstance(node, ast.Name):
+                            self.assertIn(node.id, tops(path), path.name)
+                    inner = row.value.values if isinstance(row.value, ast.Dict) else getattr(row.value, "elts", [])
+                    for node in inner:
+                        self.assertNotIsInstance(node, (ast.List, ast.Dict), path.name)
 
     def test_plain_values(self):
         for place, node in nodes(ast.Constant):

@@ -3,7 +3,7 @@
 import inspect
 import unittest
 
-from lanescribe import clocks, kinds, lanes, lookers, merge, sieve, spans, tallies, ways
+from lanescribe import clocks, desk, dumps, kinds, lanes, lookers, merge, recorder, sieve, spans, tallies, ways
 
 
 def arguments(thing):
@@ -77,6 +77,29 @@ class Interface(unittest.TestCase):
     def test_spans(self):
         for ask in (spans.spans, spans.strays, spans.deepest):
             self.assertEqual(arguments(ask), "(told, pairs)")
+
+    def test_recorder(self):
+        self.assertEqual(arguments(recorder.Recorder), "(*, pages=4, room=8)")
+        one = recorder.Recorder()
+        for names, told in (
+            ("kind", "(name, fields=())"), ("lane", "(name, *, over=True)"), ("tick", "(lane, steps=1)"),
+            ("claim", "(lane, kind)"), ("fill", "(lane, values)"), ("write", "(lane, kind, values)"),
+            ("resize", "(lane, pages)"), ("sieve", "(lane, test)"), ("tally", "(name, test, *, keys=())"),
+            ("halt", "(test=None)"), ("do", "(deed)"), ("whole", "(deeds)"), ("order", "(causes, *, most=99999)"),
+            ("give throw take now test_of look pending counts looker", "(lane)"), ("table dropped", "(name)"),
+            ("stop go undo redo twin kinds lanes tallies stopped halted_by done", "()"),
+        ):
+            for name in names.split():
+                self.assertEqual(arguments(getattr(one, name)), told, name)
+
+    def test_dumps(self):
+        self.assertEqual(arguments(dumps.dump), "(told)")
+        self.assertEqual(arguments(dumps.read_dump), "(text)")
+        self.assertEqual(arguments(dumps.mended), "(text)")
+
+    def test_desk(self):
+        self.assertEqual(arguments(desk.Desk), "(*, pages=4, room=8)")
+        self.assertEqual(arguments(desk.Desk().say), "(line)")
 
 
 if __name__ == "__main__":
